@@ -14,20 +14,6 @@ func (f fault) Error() string {
 	return "error " + strconv.Itoa(int(f))
 }
 
-// part wraps what is wrong with one part of a datagram.
-type part struct {
-	name string
-	err  error
-}
-
-func (p part) Error() string {
-	return p.name + ": " + p.err.Error()
-}
-
-func (p part) Unwrap() error {
-	return p.err
-}
-
 // number is that of the fault that is wrapped in err; of no error it is OK.
 func number(err error) api.Errno {
 	var f fault

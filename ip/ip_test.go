@@ -8,6 +8,7 @@ import (
 	"testing"
 
 	"plenum/api"
+	"plenum/wrap"
 )
 
 // some is n bytes of everywhere, always the same for one seed.
@@ -414,7 +415,7 @@ func TestFaultsAreWrapped(t *testing.T) {
 	if !errors.Is(err, fault(api.ErrShort)) || err.Error() != "head: error 2" {
 		t.Error(err)
 	}
-	if e := number(part{"outer", part{"inner", fault(api.ErrSum)}}); e != api.ErrSum {
+	if e := number(wrap.Part("outer", wrap.Part("inner", fault(api.ErrSum)))); e != api.ErrSum {
 		t.Error("two deep:", e)
 	}
 	if e := number(nil); e != api.OK {
