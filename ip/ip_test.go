@@ -408,14 +408,14 @@ func TestSpareRoomDoesNotCount(t *testing.T) {
 // A fault within tells which part it is of, and is found however deep it is wrapped.
 func TestFaultsAreWrapped(t *testing.T) {
 	err := check(api.Datagram{Dst: -1})
-	if !errors.Is(err, fault(api.ErrArg)) || err.Error() != "dst: error 1" {
+	if !errors.Is(err, wrap.Fault(api.ErrArg)) || err.Error() != "dst: error 1" {
 		t.Error(err)
 	}
 	_, err = read(make([]byte, 19))
-	if !errors.Is(err, fault(api.ErrShort)) || err.Error() != "head: error 2" {
+	if !errors.Is(err, wrap.Fault(api.ErrShort)) || err.Error() != "head: error 2" {
 		t.Error(err)
 	}
-	if e := number(wrap.Part("outer", wrap.Part("inner", fault(api.ErrSum)))); e != api.ErrSum {
+	if e := number(wrap.Part("outer", wrap.Part("inner", wrap.Fault(api.ErrSum)))); e != api.ErrSum {
 		t.Error("two deep:", e)
 	}
 	if e := number(nil); e != api.OK {

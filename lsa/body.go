@@ -65,28 +65,19 @@ func readBody(h api.Head, b []byte) (api.Lsa, error) {
 			return l, wrap.Part("flags", errForm)
 		}
 		l.Flags = int(b[0])
-		l.Links = readList(b[fixedLen:], linkLen, readLink)
+		l.Links = wire.List(b[fixedLen:], linkLen, readLink)
 	case api.LsaNetwork:
 		if len(b) < fixedLen {
 			return l, wrap.Part("mask", errForm)
 		}
 		l.Bits = addr.Bits(wire.Number(b[:fixedLen]))
-		l.Routers = readList(b[fixedLen:], routerLen, wire.Number)
+		l.Routers = wire.List(b[fixedLen:], routerLen, wire.Number)
 	case api.LsaGroup:
-		l.Verts = readList(b, vertLen, readVert)
+		l.Verts = wire.List(b, vertLen, readVert)
 	default:
 		return l, wrap.Part("kind", errKind)
 	}
 	return l, nil
-}
-
-// readList takes as many as stand whole in b.
-func readList[T any](b []byte, size int, read func([]byte) T) []T {
-	var list []T
-	for ; len(b) >= size; b = b[size:] {
-		list = append(list, read(b[:size]))
-	}
-	return list
 }
 
 func readLink(b []byte) api.Link {

@@ -1,4 +1,4 @@
-// Package wire: numbers as bytes, the high one first, as all that goes over a net has them.
+// Package wire: numbers as bytes, the high one first, as all that goes over a net has them, and lists of them.
 package wire
 
 // Append appends n's low size bytes to b.
@@ -16,4 +16,13 @@ func Number(b []byte) int {
 		n = n<<8 | int(v)
 	}
 	return n
+}
+
+// List reads as many things of that size, above 0, as stand whole in b.
+func List[T any](b []byte, size int, read func([]byte) T) []T {
+	var list []T
+	for ; len(b) >= size; b = b[size:] {
+		list = append(list, read(b[:size]))
+	}
+	return list
 }

@@ -2,6 +2,7 @@ package wire
 
 import (
 	"bytes"
+	"slices"
 	"testing"
 )
 
@@ -50,6 +51,26 @@ func TestNumberOfAppend(t *testing.T) {
 			if got := Number(Append(nil, 1<<n, size)); got != 1<<n {
 				t.Errorf("1<<%d in %d bytes comes back as %#x", n, size, got)
 			}
+		}
+	}
+}
+
+func TestListKnown(t *testing.T) {
+	for _, c := range []struct {
+		b    []byte
+		size int
+		want []int
+	}{
+		{nil, 2, nil},
+		{[]byte{1}, 2, nil},
+		{[]byte{1, 2}, 2, []int{0x0102}},
+		{[]byte{1, 2, 3}, 2, []int{0x0102}},
+		{[]byte{1, 2, 3, 4}, 2, []int{0x0102, 0x0304}},
+		{[]byte{1, 2, 3}, 1, []int{1, 2, 3}},
+		{[]byte{0, 0, 0, 5, 255, 255, 255, 255}, 4, []int{5, 1<<32 - 1}},
+	} {
+		if got := List(c.b, c.size, Number); !slices.Equal(got, c.want) {
+			t.Errorf("List(%v, %d) is %v, not %v", c.b, c.size, got, c.want)
 		}
 	}
 }

@@ -1,6 +1,19 @@
 // Package wrap: faults within, wrapped by the part of a thing that they are of.
 package wrap
 
+import (
+	"strconv"
+
+	"plenum/api"
+)
+
+// Fault is a number of api as an error, which errors.As finds however deep it is wrapped.
+type Fault api.Errno
+
+func (f Fault) Error() string {
+	return "error " + strconv.Itoa(int(f))
+}
+
 // part is a fault and the name of what it is of.
 type part struct {
 	name string
